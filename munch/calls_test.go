@@ -1,0 +1,135 @@
+package munch_test
+
+import (
+	"math/rand"
+	"strings"
+	"testing"
+
+	"munch/api"
+	"munch/munch"
+)
+
+// TestAnyText: P1 at texts that no one would write. An answer that is neither a lexer nor an error, or both, is a fault too.
+func TestAnyText(t *testing.T) {
+	r := rand.New(rand.NewSource(4))
+	for i := 0; i < 20000; i++ {
+		s := randomText(r)
+		x, e, at := munch.New(s)
+		switch {
+		case e == api.OK:
+			if x == nil || at != 0 || !isRuleText(s) {
+				t.Fatalf("P1, P3: New(%q) = %v, OK, %d", s, x != nil, at)
+			}
+			useAll(x)
+		case x != nil || e < 0 || e > api.ErrStates:
+			t.Fatalf("P1: New(%q) = %v, %d", s, x != nil, e)
+		case e == api.ErrSyntax:
+			if isRuleText(s) || !isPlaceOfFault(s, at) {
+				t.Fatalf("P3: New(%q): ErrSyntax at %d", s, at)
+			}
+		case at != 0 || (e == api.ErrLong) != (len(s) > api.MaxText):
+			t.Fatalf("P3: New(%q) = nil, %d, %d", s, e, at)
+		}
+	}
+}
+
+func isPlaceOfFault(s string, at int) bool {
+	if at < 0 || at > len(s) || !beginsRuleText(s[:at]) {
+		return false
+	}
+	return at == len(s) || !beginsRuleText(s[:at+1])
+}
+
+func randomText(r *rand.Rand) string {
+	bytes := []byte{}
+	for n := r.Intn(20); n > 0; n-- {
+		switch r.Intn(8) {
+		case 0:
+			bytes = append(bytes, byte(r.Intn(256)))
+		case 1, 2:
+			bytes = append(bytes, specials[r.Intn(len(specials))])
+		default:
+			bytes = append(bytes, "ab-^*|"[r.Intn(6)])
+		}
+	}
+	return strings.Repeat(string(bytes), 1+r.Intn(8))
+}
+
+func useAll(x *munch.Lexer) {
+	for s := -2; s < x.States()+2; s++ {
+		x.Rule(s)
+		for b := -2; b < 258; b++ {
+			x.Next(s, b)
+		}
+	}
+}
+
+func TestDeepAndWide(t *testing.T) {
+	for _, s := range []string{
+		strings.Repeat("(", 40) + "a" + strings.Repeat("*)", 39) + ")",
+		strings.Repeat("(", 39) + "a" + strings.Repeat(")+", 39),
+		"(" + strings.Repeat("a*", 57) + ")*",
+		strings.Repeat(".*\n", 39) + ".*",
+		strings.Repeat("(a?", 29) + strings.Repeat(")*", 15),
+	} {
+		x, e, _ := munch.New(s)
+		if (x == nil) != (e != api.OK) {
+			t.Errorf("P1: New(%q) = %v, %d", s, x != nil, e)
+		}
+		if x != nil {
+			useAll(x)
+		}
+	}
+}
+
+type answers struct {
+	states int
+	rules  []int
+	next   []int
+}
+
+func allAnswers(x *munch.Lexer) answers {
+	a := answers{states: x.States()}
+	for s := -1; s <= a.states; s++ {
+		a.rules = append(a.rules, x.Rule(s))
+		for b := -1; b <= 256; b++ {
+			a.next = append(a.next, x.Next(s, b))
+		}
+	}
+	return a
+}
+
+func same(a, b answers) bool {
+	if a.states != b.states || len(a.rules) != len(b.rules) || len(a.next) != len(b.next) {
+		return false
+	}
+	for i := range a.rules {
+		if a.rules[i] != b.rules[i] {
+			return false
+		}
+	}
+	for i := range a.next {
+		if a.next[i] != b.next[i] {
+			return false
+		}
+	}
+	return true
+}
+
+// TestLexersStandAlone: P2: what a lexer answers hangs neither on other lexers nor on what was asked before.
+func TestLexersStandAlone(t *testing.T) {
+	texts := []string{"a|abc", "if\n[a-z]+", "a|a*b", "(ab)*c", "[^\\n]?x*", "[^\x00-\xff]", strings.Repeat("ab", 30)}
+	lexers, first := []*munch.Lexer{}, []answers{}
+	for _, s := range texts {
+		x := mustNew(t, s)
+		lexers = append(lexers, x)
+		first = append(first, allAnswers(x))
+	}
+	for i := len(texts) - 1; i >= 0; i-- {
+		wantSyntax(t, texts[i]+"\n*", len(texts[i])+1)
+		again := mustNew(t, texts[i])
+		if !same(allAnswers(again), first[i]) || !same(allAnswers(lexers[i]), first[i]) {
+			t.Errorf("P2: %q: the answers are others the second time", texts[i])
+		}
+	}
+}

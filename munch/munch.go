@@ -1,0 +1,59 @@
+// Package munch: tokenisers that know how far they must look ahead: see DOC.md.
+package munch
+
+import (
+	"munch/api"
+	"munch/places"
+	"munch/states"
+)
+
+// Lexer is what was made out of a rule text.
+type Lexer struct {
+	table states.Table
+}
+
+// Stream is an input that is cut into tokens as it comes.
+type Stream struct{}
+
+// New makes a lexer (P3).
+func New(rules string) (*Lexer, api.Errno, int) {
+	read, e, at := places.Read(rules)
+	if e != api.OK {
+		return nil, e, at
+	}
+	table, e := states.Build(read)
+	if e != api.OK {
+		return nil, e, 0
+	}
+	return &Lexer{table: table}, api.OK, 0
+}
+
+// States tells how many states there are (P4).
+func (x *Lexer) States() int { return x.table.Count() }
+
+// Next tells where a byte leads (P4).
+func (x *Lexer) Next(s int, b int) int { return x.table.Next(s, b) }
+
+// Rule tells of which rule a state's texts are tokens (P4).
+func (x *Lexer) Rule(s int) int { return x.table.Rule(s) }
+
+// Split cuts an input into tokens (P5).
+func (x *Lexer) Split(input string) ([]api.Token, api.Errno) { return nil, api.OK }
+
+// Gap tells how far one must look ahead (P6).
+func (x *Lexer) Gap() api.Gap { return api.Gap{} }
+
+// Open begins a stream (P7).
+func (x *Lexer) Open() (*Stream, api.Errno) { return nil, api.OK }
+
+// Feed gives a stream some bytes more (P8).
+func (t *Stream) Feed(bytes string) ([]api.Token, api.Errno) { return nil, api.OK }
+
+// Close says that the input ends here (P9).
+func (t *Stream) Close() ([]api.Token, api.Errno) { return nil, api.OK }
+
+// Save tells how a stream stands (P10).
+func (t *Stream) Save() (api.Saved, api.Errno) { return api.Saved{}, api.OK }
+
+// Resume makes a stream that stands so (P11).
+func (x *Lexer) Resume(s api.Saved) (*Stream, api.Errno) { return nil, api.OK }
