@@ -2,6 +2,7 @@ package munch_test
 
 import (
 	"math/rand"
+	"slices"
 	"strings"
 	"testing"
 
@@ -56,6 +57,10 @@ func randomText(r *rand.Rand) string {
 }
 
 func useAll(x *munch.Lexer) {
+	x.Gap()
+	for _, input := range []string{"", "ab-^*|\n", "\x00\xff\x80", strings.Repeat("ab", 40)} {
+		x.Split(input)
+	}
 	for s := -2; s < x.States()+2; s++ {
 		x.Rule(s)
 		for b := -2; b < 258; b++ {
@@ -86,34 +91,27 @@ type answers struct {
 	states int
 	rules  []int
 	next   []int
+	tokens []api.Token
+	gap    api.Gap
 }
 
 func allAnswers(x *munch.Lexer) answers {
-	a := answers{states: x.States()}
+	a := answers{states: x.States(), gap: x.Gap()}
 	for s := -1; s <= a.states; s++ {
 		a.rules = append(a.rules, x.Rule(s))
 		for b := -1; b <= 256; b++ {
 			a.next = append(a.next, x.Next(s, b))
 		}
 	}
+	for _, input := range []string{"", "abcab", "ifs if", "aaab", "ababc\n", "\n\x00\xff"} {
+		l, _ := x.Split(input)
+		a.tokens = append(a.tokens, l...)
+	}
 	return a
 }
 
 func same(a, b answers) bool {
-	if a.states != b.states || len(a.rules) != len(b.rules) || len(a.next) != len(b.next) {
-		return false
-	}
-	for i := range a.rules {
-		if a.rules[i] != b.rules[i] {
-			return false
-		}
-	}
-	for i := range a.next {
-		if a.next[i] != b.next[i] {
-			return false
-		}
-	}
-	return true
+	return a.states == b.states && a.gap == b.gap && slices.Equal(a.rules, b.rules) && slices.Equal(a.next, b.next) && slices.Equal(a.tokens, b.tokens)
 }
 
 // TestLexersStandAlone: P2: what a lexer answers hangs neither on other lexers nor on what was asked before.

@@ -3,6 +3,8 @@ package munch
 
 import (
 	"munch/api"
+	"munch/cut"
+	"munch/gap"
 	"munch/places"
 	"munch/states"
 )
@@ -38,10 +40,15 @@ func (x *Lexer) Next(s int, b int) int { return x.table.Next(s, b) }
 func (x *Lexer) Rule(s int) int { return x.table.Rule(s) }
 
 // Split cuts an input into tokens (P5).
-func (x *Lexer) Split(input string) ([]api.Token, api.Errno) { return nil, api.OK }
+func (x *Lexer) Split(input string) ([]api.Token, api.Errno) {
+	if len(input) > api.MaxInput {
+		return nil, api.ErrRoom
+	}
+	return cut.All(&x.table, input), api.OK
+}
 
 // Gap tells how far one must look ahead (P6).
-func (x *Lexer) Gap() api.Gap { return api.Gap{} }
+func (x *Lexer) Gap() api.Gap { return gap.Find(&x.table) }
 
 // Open begins a stream (P7).
 func (x *Lexer) Open() (*Stream, api.Errno) { return nil, api.OK }
