@@ -67,6 +67,14 @@ func useAll(x *munch.Lexer) {
 			x.Next(s, b)
 		}
 	}
+	if s, _ := x.Open(); s != nil {
+		for _, piece := range []string{"", "a", "b-^*|\n", "", "\x00\xff\x80", strings.Repeat("ab", 40)} {
+			s.Feed(piece)
+		}
+		s.Close()
+		s.Feed("a")
+		s.Close()
+	}
 }
 
 func TestDeepAndWide(t *testing.T) {
@@ -93,6 +101,8 @@ type answers struct {
 	next   []int
 	tokens []api.Token
 	gap    api.Gap
+	opens  bool
+	told   []api.Token
 }
 
 func allAnswers(x *munch.Lexer) answers {
@@ -107,11 +117,23 @@ func allAnswers(x *munch.Lexer) answers {
 		l, _ := x.Split(input)
 		a.tokens = append(a.tokens, l...)
 	}
+	s, _ := x.Open()
+	a.opens = s != nil
+	for _, piece := range []string{"", "ab", "cab", "ifs if", "\n\x00\xff", "aaab", "a"} {
+		if a.opens {
+			l, _ := s.Feed(piece)
+			a.told = append(a.told, l...)
+		}
+	}
+	if a.opens {
+		l, _ := s.Close()
+		a.told = append(a.told, l...)
+	}
 	return a
 }
 
 func same(a, b answers) bool {
-	return a.states == b.states && a.gap == b.gap && slices.Equal(a.rules, b.rules) && slices.Equal(a.next, b.next) && slices.Equal(a.tokens, b.tokens)
+	return a.states == b.states && a.gap == b.gap && slices.Equal(a.rules, b.rules) && slices.Equal(a.next, b.next) && slices.Equal(a.tokens, b.tokens) && a.opens == b.opens && slices.Equal(a.told, b.told)
 }
 
 // TestLexersStandAlone: P2: what a lexer answers hangs neither on other lexers nor on what was asked before.

@@ -15,7 +15,11 @@ type Lexer struct {
 }
 
 // Stream is an input that is cut into tokens as it comes.
-type Stream struct{}
+type Stream struct {
+	table  *states.Table
+	stand  api.Saved
+	closed bool
+}
 
 // New makes a lexer (P3).
 func New(rules string) (*Lexer, api.Errno, int) {
@@ -44,20 +48,48 @@ func (x *Lexer) Split(input string) ([]api.Token, api.Errno) {
 	if len(input) > api.MaxInput {
 		return nil, api.ErrRoom
 	}
-	return cut.All(&x.table, input), api.OK
+	start := cut.Start(0)
+	tokens, _ := cut.On(&x.table, start, input, true)
+	return tokens, api.OK
 }
 
 // Gap tells how far one must look ahead (P6).
 func (x *Lexer) Gap() api.Gap { return gap.Find(&x.table) }
 
 // Open begins a stream (P7).
-func (x *Lexer) Open() (*Stream, api.Errno) { return nil, api.OK }
+func (x *Lexer) Open() (*Stream, api.Errno) {
+	g := gap.Find(&x.table)
+	if !g.Bounded {
+		return nil, api.ErrGap
+	}
+	start := cut.Start(0)
+	return &Stream{table: &x.table, stand: start}, api.OK
+}
 
 // Feed gives a stream some bytes more (P8).
-func (t *Stream) Feed(bytes string) ([]api.Token, api.Errno) { return nil, api.OK }
+func (t *Stream) Feed(bytes string) ([]api.Token, api.Errno) {
+	if t.closed {
+		return nil, api.ErrClosed
+	}
+	fed := t.stand.End + len(t.stand.Tail)
+	if len(bytes) > api.MaxOffset-fed {
+		return nil, api.ErrRoom
+	}
+	tokens, stand := cut.On(t.table, t.stand, bytes, false)
+	t.stand = stand
+	return tokens, api.OK
+}
 
 // Close says that the input ends here (P9).
-func (t *Stream) Close() ([]api.Token, api.Errno) { return nil, api.OK }
+func (t *Stream) Close() ([]api.Token, api.Errno) {
+	if t.closed {
+		return nil, api.ErrClosed
+	}
+	tokens, stand := cut.On(t.table, t.stand, "", true)
+	t.stand = stand
+	t.closed = true
+	return tokens, api.OK
+}
 
 // Save tells how a stream stands (P10).
 func (t *Stream) Save() (api.Saved, api.Errno) { return api.Saved{}, api.OK }

@@ -62,3 +62,16 @@ func (t *Table) Rule(state int) int {
 	}
 	return t.g.rule[state]
 }
+
+// LeadsOn tells whether some byte leads from a state to one; not, if there is no such state.
+func (t *Table) LeadsOn(state int) bool {
+	if state < 0 || state >= len(t.g.next) {
+		return false
+	}
+	for _, to := range t.g.next[state] {
+		if to != api.NoState {
+			return true
+		}
+	}
+	return false
+}
