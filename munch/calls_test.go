@@ -21,7 +21,7 @@ func TestAnyText(t *testing.T) {
 			if x == nil || at != 0 || !isRuleText(s) {
 				t.Fatalf("P1, P3: New(%q) = %v, OK, %d", s, x != nil, at)
 			}
-			useAll(x)
+			useAll(t, x)
 		case x != nil || e < 0 || e > api.ErrStates:
 			t.Fatalf("P1: New(%q) = %v, %d", s, x != nil, e)
 		case e == api.ErrSyntax:
@@ -56,7 +56,8 @@ func randomText(r *rand.Rand) string {
 	return strings.Repeat(string(bytes), 1+r.Intn(8))
 }
 
-func useAll(x *munch.Lexer) {
+func useAll(t *testing.T, x *munch.Lexer) {
+	t.Helper()
 	x.Gap()
 	for _, input := range []string{"", "ab-^*|\n", "\x00\xff\x80", strings.Repeat("ab", 40)} {
 		x.Split(input)
@@ -70,10 +71,36 @@ func useAll(x *munch.Lexer) {
 	if s, _ := x.Open(); s != nil {
 		for _, piece := range []string{"", "a", "b-^*|\n", "", "\x00\xff\x80", strings.Repeat("ab", 40)} {
 			s.Feed(piece)
+			s.Save()
 		}
 		s.Close()
 		s.Feed("a")
 		s.Close()
+		s.Save()
+	}
+	resumeAll(t, x)
+}
+
+// resumeAll: P1 at what was never saved.
+func resumeAll(t *testing.T, x *munch.Lexer) {
+	t.Helper()
+	const most, least = 1<<63 - 1, -1 << 63
+	for state := -1; state <= min(4, x.States()); state++ {
+		for _, v := range []api.Saved{
+			{}, {Rule: api.NoRule}, {At: least, End: most, Rule: x.Rule(state), State: state, Tail: "a"}, {At: most, End: most, Rule: api.NoRule, Tail: "a"}, {At: most, End: least},
+			{Rule: most, State: most}, {End: 1, Rule: least, State: least}, {End: 1, Rule: api.NoRule, State: state}, {End: 1, Rule: x.Rule(state), State: state},
+			{End: 1, Rule: x.Rule(state), State: state, Tail: "a"}, {Rule: api.NoRule, Tail: "ab\x00\xff"}, {End: api.MaxOffset, Rule: x.Rule(state), State: state},
+		} {
+			s, e := x.Resume(v)
+			if (s == nil) == (e == api.OK) {
+				t.Fatalf("P1: Resume(%+v) = %v, %d", v, s != nil, e)
+			}
+			if s != nil {
+				s.Feed("ab")
+				s.Save()
+				s.Close()
+			}
+		}
 	}
 }
 
@@ -90,7 +117,7 @@ func TestDeepAndWide(t *testing.T) {
 			t.Errorf("P1: New(%q) = %v, %d", s, x != nil, e)
 		}
 		if x != nil {
-			useAll(x)
+			useAll(t, x)
 		}
 	}
 }
@@ -103,6 +130,7 @@ type answers struct {
 	gap    api.Gap
 	opens  bool
 	told   []api.Token
+	saved  []api.Saved
 }
 
 func allAnswers(x *munch.Lexer) answers {
@@ -123,6 +151,9 @@ func allAnswers(x *munch.Lexer) answers {
 		if a.opens {
 			l, _ := s.Feed(piece)
 			a.told = append(a.told, l...)
+			v, _ := s.Save()
+			a.saved = append(a.saved, v)
+			s, _ = x.Resume(v)
 		}
 	}
 	if a.opens {
@@ -133,7 +164,7 @@ func allAnswers(x *munch.Lexer) answers {
 }
 
 func same(a, b answers) bool {
-	return a.states == b.states && a.gap == b.gap && slices.Equal(a.rules, b.rules) && slices.Equal(a.next, b.next) && slices.Equal(a.tokens, b.tokens) && a.opens == b.opens && slices.Equal(a.told, b.told)
+	return a.states == b.states && a.gap == b.gap && slices.Equal(a.rules, b.rules) && slices.Equal(a.next, b.next) && slices.Equal(a.tokens, b.tokens) && a.opens == b.opens && slices.Equal(a.told, b.told) && slices.Equal(a.saved, b.saved)
 }
 
 // TestLexersStandAlone: P2: what a lexer answers hangs neither on other lexers nor on what was asked before.

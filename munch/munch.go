@@ -92,7 +92,22 @@ func (t *Stream) Close() ([]api.Token, api.Errno) {
 }
 
 // Save tells how a stream stands (P10).
-func (t *Stream) Save() (api.Saved, api.Errno) { return api.Saved{}, api.OK }
+func (t *Stream) Save() (api.Saved, api.Errno) {
+	if t.closed {
+		return api.Saved{}, api.ErrClosed
+	}
+	return t.stand, api.OK
+}
 
 // Resume makes a stream that stands so (P11).
-func (x *Lexer) Resume(s api.Saved) (*Stream, api.Errno) { return nil, api.OK }
+func (x *Lexer) Resume(s api.Saved) (*Stream, api.Errno) {
+	g := gap.Find(&x.table)
+	if !g.Bounded {
+		return nil, api.ErrGap
+	}
+	stand, fits := cut.Resume(&x.table, s)
+	if !fits {
+		return nil, api.ErrSaved
+	}
+	return &Stream{table: &x.table, stand: stand}, api.OK
+}
